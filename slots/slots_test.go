@@ -301,17 +301,82 @@ func TestBodiesThatAreReadButWouldntBeLaid(t *testing.T) {
 	unread(t, "a lower kid", slots.Kids(), byHand(kid("b", 2), kid("a", 2)), 2, api.ErrOrder)
 }
 
-func TestBodiesThatNoPageHasRoomFor(t *testing.T) {
-	var cells []string
-	for _, c := range many(10) {
-		cells = append(cells, inline(c.Key, c.Value))
+// roomless wants cells to be read of a body that is just as told, though no page has room for it.
+func roomless[T comparable](t *testing.T, what string, s slots.Shape[T], l []T, body string) {
+	t.Helper()
+	is(t, what+": more than the room", len(body) > page.Room, true)
+	got, e := s.Read(body, len(l))
+	is(t, what+": Read", e, api.OK)
+	is(t, what+": the cells", slices.Equal(got, l), true)
+	refused(t, what+": Body", s, l, api.ErrFull)
+	for _, count := range []int{-1, 0, 1, len(l) - 1, len(l) + 1} {
+		unread(t, what+": of "+strconv.Itoa(count), s, body, count, api.ErrForm)
 	}
-	unread(t, "more than the room", slots.Leaves(), byHand(cells...), 10, api.ErrForm)
-	l, e := slots.Leaves().Read(byHand(cells[:9]...), 9)
-	is(t, "less", e, api.OK)
-	is(t, "the cells", slices.Equal(l, many(9)), true)
-	far := []string{inline("a", x(65535)), inline("b", ""), inline("c", "")}
-	unread(t, "slots that can't tell where", slots.Leaves(), byHand(far...), 3, api.ErrForm)
+	unread(t, what+": a byte behind", s, body+"\x00", len(l), api.ErrForm)
+	unread(t, what+": a byte less", s, body[:len(body)-1], len(l), api.ErrForm)
+}
+
+// long are kids with keys of 255 bytes.
+func long(n int) ([]slots.Kid, []string) {
+	var l []slots.Kid
+	var cells []string
+	for i := range n {
+		k := slots.Kid{Key: strconv.Itoa(100+i) + x(252), Page: uint32(i)}
+		l, cells = append(l, k), append(cells, kid(k.Key, k.Page))
+	}
+	return l, cells
+}
+
+func TestBodiesThatNoPageHasRoomForAreRead(t *testing.T) {
+	s := slots.Leaves()
+	l := append(many(9), api.Cell{Key: "200", Value: x(383)})
+	body := bytesOf(l)
+	is(t, "a byte more than the room", len(body), page.Room+1)
+	roomless(t, "a byte more", s, l, body)
+	for _, n := range []int{10, 11, 12, 50, 160} {
+		roomless(t, strconv.Itoa(n)+" leaves", s, many(n), bytesOf(many(n)))
+	}
+	mixed := append(many(12), api.Cell{Key: "200", Chain: 7, Long: 70000}, api.Cell{Key: x(255)})
+	roomless(t, "both sorts", s, mixed, bytesOf(mixed))
+	for _, n := range []int{16, 20, 250} {
+		kids, cells := long(n)
+		roomless(t, strconv.Itoa(n)+" kids", slots.Kids(), kids, byHand(cells...))
+	}
+}
+
+func TestBodiesThatNoPageHasRoomForAreRefusedAsShorterOnes(t *testing.T) {
+	s := slots.Leaves()
+	full := bytesOf(many(11))
+	unread(t, "a slot turned", s, "\x00\x17"+full[2:], 11, api.ErrForm)
+	unread(t, "another byte than 0 and 1", s, byHand(append(leavesOf(many(11)), "\x03200\x02\x00\x00")...), 12, api.ErrForm)
+	unread(t, "a chain 0", s, byHand(append(leavesOf(many(11)), chained("200", 0, 5))...), 12, api.ErrForm)
+	tooLong, tooLow := inline("200", x(401)), inline("0", "")
+	unread(t, "a value of 401", s, byHand(append(leavesOf(many(11)), tooLong)...), 12, api.ErrLong)
+	unread(t, "a lower key", s, byHand(append(leavesOf(many(11)), tooLow)...), 12, api.ErrOrder)
+	unread(t, "the same key", s, byHand(append(leavesOf(many(11)), inline("110", ""))...), 12, api.ErrOrder)
+	both := append(leavesOf(many(11)), tooLow, tooLong)
+	unread(t, "too long, ahead of the order", s, byHand(both...), 13, api.ErrLong)
+	unread(t, "the form, ahead of both", s, byHand(both...)+"\x00", 13, api.ErrForm)
+	_, cells := long(20)
+	unread(t, "a kid that is lower", slots.Kids(), byHand(append(cells, kid("0", 2))...), 21, api.ErrOrder)
+	unread(t, "a kid cut off", slots.Kids(), byHand(append(cells, kid("9", 2)[:5])...), 21, api.ErrForm)
+}
+
+func TestCellsThatBeginWhereNoSlotCanTell(t *testing.T) {
+	s := slots.Leaves()
+	unread(t, "a value beyond", s, byHand(inline("a", x(65535)), inline("b", ""), inline("c", "")), 3, api.ErrForm)
+	unread(t, "one cell beyond", s, bytesOf(many(162)), 162, api.ErrForm)
+	// With this rest the last cell begins at the last place that a slot can tell.
+	l := append(many(160), api.Cell{Key: "900", Value: x(84)}, api.Cell{Key: "901", Value: "hi"})
+	is(t, "where it begins", len(bytesOf(l))-len(inline("901", "hi")), math.MaxUint16)
+	roomless(t, "the last place", s, l, bytesOf(l))
+	l[160].Value += "x"
+	unread(t, "one beyond the last place", s, bytesOf(l), 162, api.ErrForm)
+	w := words()
+	w.Key = func(s string) string { return s[:1] }
+	got, e := w.Read(byHand("a", "b"+x(70000)), 2)
+	is(t, "a cell that goes on beyond", e, api.OK)
+	is(t, "the cells", slices.Equal(got, []string{"a", "b" + x(70000)}), true)
 }
 
 // keys are short ones, rising, many of which begin alike.
@@ -343,8 +408,11 @@ func some(chance *rand.Rand, n int) ([]api.Cell, []slots.Kid) {
 	return cells, kids
 }
 
-// bytesOf are cells' bytes by hand.
-func bytesOf(cells []api.Cell) string {
+// bytesOf is the body of cells, by hand.
+func bytesOf(cells []api.Cell) string { return byHand(leavesOf(cells)...) }
+
+// leavesOf are cells' bytes, by hand.
+func leavesOf(cells []api.Cell) []string {
 	var l []string
 	for _, c := range cells {
 		if c.Chain != 0 {
@@ -353,7 +421,7 @@ func bytesOf(cells []api.Cell) string {
 			l = append(l, inline(c.Key, c.Value))
 		}
 	}
-	return byHand(l...)
+	return l
 }
 
 func TestWhatIsLaidIsReadAsItWas(t *testing.T) {
@@ -407,6 +475,29 @@ func TestWhatIsReadWouldBeLaidSo(t *testing.T) {
 		}
 	}
 	is(t, "enough were read", found > 2000, true)
+}
+
+func TestWhatIsReadOfMoreThanTheRoomIsThatBody(t *testing.T) {
+	chance := rand.New(rand.NewPCG(7, 8))
+	s := slots.Leaves()
+	mixed := append(many(11), api.Cell{Key: "200", Chain: 7, Long: 70000}, api.Cell{Key: x(255)})
+	body := bytesOf(mixed)
+	found := 0
+	for range 5000 {
+		b := []byte(body)
+		for range 1 + chance.IntN(3) {
+			b[chance.IntN(len(b))] = "\x00\x00\x01\x02\x03\x04\x06\x10ab\xff"[chance.IntN(11)]
+		}
+		l, e := s.Read(string(b), len(mixed))
+		if e != api.OK {
+			is(t, "beside an error", len(l), 0)
+			continue
+		}
+		found++
+		is(t, "the body", bytesOf(l), string(b))
+		refused(t, "Body", s, l, api.ErrFull)
+	}
+	is(t, "enough were read", found > 1000, true)
 }
 
 func TestFind(t *testing.T) {
