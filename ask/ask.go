@@ -1,0 +1,90 @@
+// Package ask asks whoever has pairs. One that panics, or isn't there, counts as one that can't be used: the error is ErrArg, for no call of ours may panic.
+package ask
+
+import (
+	"iter"
+
+	"taproot/api"
+)
+
+// Getter tells values.
+type Getter interface {
+	Get(key string) (string, bool, api.Errno)
+}
+
+// Ranger tells pairs.
+type Ranger interface {
+	Range(from, to string) iter.Seq2[api.Pair, api.Errno]
+}
+
+// Putter takes pairs.
+type Putter interface {
+	Put(key, value string) api.Errno
+}
+
+// Cutter gives pairs up.
+type Cutter interface {
+	Cut(key string) (bool, api.Errno)
+}
+
+// Get: a value; nothing beside an error.
+func Get(of Getter, key string) (value string, there bool, e api.Errno) {
+	defer func() {
+		if recover() != nil {
+			value, there, e = "", false, api.ErrArg
+		}
+	}()
+	value, there, e = of.Get(key)
+	if e != api.OK || !there {
+		return "", false, e
+	}
+	return value, true, api.OK
+}
+
+// Put: a pair.
+func Put(to Putter, key, value string) (e api.Errno) {
+	defer func() {
+		if recover() != nil {
+			e = api.ErrArg
+		}
+	}()
+	return to.Put(key, value)
+}
+
+// Cut: without a key; nothing beside an error.
+func Cut(of Cutter, key string) (there bool, e api.Errno) {
+	defer func() {
+		if recover() != nil {
+			there, e = false, api.ErrArg
+		}
+	}()
+	there, e = of.Cut(key)
+	return there && e == api.OK, e
+}
+
+// Range: pairs, up to the first error, beside which there is none.
+func Range(of Ranger, from, to string) iter.Seq2[api.Pair, api.Errno] {
+	return func(yield func(api.Pair, api.Errno) bool) {
+		away, over := false, false // is whoever goes through the row at it, and have they done with it?
+		give := func(p api.Pair, e api.Errno) bool {
+			away = true
+			over = !yield(p, e) || e != api.OK
+			away = false
+			return !over
+		}
+		defer func() {
+			// A panic of whoever goes through the row is theirs.
+			if !away && recover() != nil && !over {
+				give(api.Pair{}, api.ErrArg)
+			}
+		}()
+		for p, e := range of.Range(from, to) {
+			if e != api.OK {
+				p = api.Pair{}
+			}
+			if !give(p, e) {
+				return
+			}
+		}
+	}
+}
