@@ -88,3 +88,35 @@ func Range(of Ranger, from, to string) iter.Seq2[api.Pair, api.Errno] {
 		}
 	}
 }
+
+// Thing: what stands under a key, if something does; nothing beside an error.
+func Thing[T any](of Getter, key string, read func(value string) (T, api.Errno)) (T, bool, api.Errno) {
+	var none T
+	value, there, e := Get(of, key)
+	if e != api.OK || !there {
+		return none, false, e
+	}
+	x, e := read(value)
+	if e != api.OK {
+		return none, false, e
+	}
+	return x, true, api.OK
+}
+
+// Things: what the pairs within bounds are, up to the first error, beside which there is nothing.
+func Things[T any](of Ranger, from, to string, read func(api.Pair) (T, api.Errno)) iter.Seq2[T, api.Errno] {
+	return func(yield func(T, api.Errno) bool) {
+		for p, e := range Range(of, from, to) {
+			var x, none T
+			if e == api.OK {
+				x, e = read(p)
+			}
+			if e != api.OK {
+				x = none
+			}
+			if !yield(x, e) || e != api.OK {
+				return
+			}
+		}
+	}
+}

@@ -3,6 +3,7 @@ package ask_test
 import (
 	"iter"
 	"slices"
+	"strings"
 	"testing"
 
 	"taproot/api"
@@ -169,5 +170,78 @@ func TestRangeLeavesPanicsOfOthers(t *testing.T) {
 			}
 		}()
 		is(t, "once", n, 1)
+	}
+}
+
+// number is how many letters a value has, where these are v alone.
+func number(value string) (int, api.Errno) {
+	if strings.Trim(value, "v") != "" {
+		return 99, api.ErrForm
+	}
+	return len(value), api.OK
+}
+
+func TestThing(t *testing.T) {
+	for _, x := range []struct {
+		h     *holder
+		n     int
+		there bool
+		e     api.Errno
+	}{
+		{&holder{value: "vv", there: true}, 2, true, api.OK},
+		{&holder{there: true}, 0, true, api.OK},
+		{&holder{value: "vv"}, 0, false, api.OK},
+		{&holder{value: "x"}, 0, false, api.OK},
+		{&holder{value: "x", there: true}, 0, false, api.ErrForm},
+		{&holder{value: "vv", there: true, err: api.ErrSum}, 0, false, api.ErrSum},
+		{&holder{panics: true}, 0, false, api.ErrArg},
+		{nil, 0, false, api.ErrArg},
+	} {
+		n, there, e := ask.Thing(x.h, "a", number)
+		is(t, "the error", e, x.e)
+		is(t, "there", there, x.there)
+		is(t, "the thing", n, x.n)
+	}
+}
+
+// told is what a row of numbers gives once.
+type told struct {
+	n int
+	e api.Errno
+}
+
+func TestThings(t *testing.T) {
+	one, two, broken := step{p: api.Pair{Value: "v"}}, step{p: api.Pair{Value: "vv"}}, step{p: api.Pair{Value: "x"}}
+	rows := []struct {
+		what string
+		r    iter.Seq2[api.Pair, api.Errno]
+		want []told
+	}{
+		{"nothing", row(false), nil},
+		{"things", row(false, one, two), []told{{n: 1}, {n: 2}}},
+		{"an error ends it", row(false, one, step{two.p, api.ErrSum}, two), []told{{n: 1}, {e: api.ErrSum}}},
+		{"what can't be read ends it", row(false, one, broken, two), []told{{n: 1}, {e: api.ErrForm}}},
+		{"a panic ends it", row(true, one), []told{{n: 1}, {e: api.ErrArg}}},
+		{"no row", nil, []told{{e: api.ErrArg}}},
+	}
+	for _, x := range rows {
+		things := ask.Things(&holder{row: x.r}, "", "", func(p api.Pair) (int, api.Errno) { return number(p.Value) })
+		for range 2 {
+			var l []told
+			for n, e := range things {
+				l = append(l, told{n, e})
+			}
+			is(t, x.what, slices.Equal(l, x.want), true)
+		}
+		for most := range len(x.want) {
+			n := 0
+			for range things {
+				n++
+				if n > most {
+					break
+				}
+			}
+			is(t, x.what+": left", n, most+1)
+		}
 	}
 }

@@ -31,7 +31,7 @@ func Bindings(r Reader, exchange string) iter.Seq2[api.Binding, api.Errno] {
 	if from == "" {
 		return func(func(api.Binding, api.Errno) bool) {}
 	}
-	return within(r, from, to, binding)
+	return ask.Things(r, from, to, binding)
 }
 
 // Bind: an exchange leads to a queue.
