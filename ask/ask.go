@@ -1,4 +1,4 @@
-// Package ask asks whoever has pairs. One that panics, or isn't there, counts as one that can't be used: the error is ErrArg, for no call of ours may panic.
+// Package ask asks whoever has pairs, and goes through rows. What panics, or isn't there, counts as what can't be used: the error is ErrArg, for no call of ours may panic.
 package ask
 
 import (
@@ -64,25 +64,34 @@ func Cut(of Cutter, key string) (there bool, e api.Errno) {
 
 // Range: pairs, up to the first error, beside which there is none.
 func Range(of Ranger, from, to string) iter.Seq2[api.Pair, api.Errno] {
-	return func(yield func(api.Pair, api.Errno) bool) {
+	return Row(func(yield func(api.Pair, api.Errno) bool) { of.Range(from, to)(yield) })
+}
+
+// Row: what a row gives, up to the first error, beside which there is nothing. One that isn't there is empty.
+func Row[T any](r iter.Seq2[T, api.Errno]) iter.Seq2[T, api.Errno] {
+	return func(yield func(T, api.Errno) bool) {
+		if r == nil {
+			return
+		}
+		var none T
 		away, over := false, false // is whoever goes through the row at it, and have they done with it?
-		give := func(p api.Pair, e api.Errno) bool {
+		give := func(x T, e api.Errno) bool {
 			away = true
-			over = !yield(p, e) || e != api.OK
+			over = !yield(x, e) || e != api.OK
 			away = false
 			return !over
 		}
 		defer func() {
 			// A panic of whoever goes through the row is theirs.
 			if !away && recover() != nil && !over {
-				give(api.Pair{}, api.ErrArg)
+				give(none, api.ErrArg)
 			}
 		}()
-		for p, e := range of.Range(from, to) {
+		for x, e := range r {
 			if e != api.OK {
-				p = api.Pair{}
+				x = none
 			}
-			if !give(p, e) {
+			if !give(x, e) {
 				return
 			}
 		}

@@ -173,6 +173,32 @@ func TestRangeLeavesPanicsOfOthers(t *testing.T) {
 	}
 }
 
+// A row of things of any sort is held to the same; one that isn't there is empty.
+func TestRow(t *testing.T) {
+	numbers := func(yield func(int, api.Errno) bool) {
+		if yield(1, api.OK) && yield(2, api.OK) {
+			yield(3, api.ErrSum)
+			panic("behind an error")
+		}
+		panic("left")
+	}
+	row := ask.Row(numbers)
+	for range 2 {
+		var l []told
+		for n, e := range row {
+			l = append(l, told{n, e})
+		}
+		is(t, "its things, and the error", slices.Equal(l, []told{{n: 1}, {n: 2}, {e: api.ErrSum}}), true)
+	}
+	for n, e := range row {
+		is(t, "left", n == 1 && e == api.OK, true)
+		break
+	}
+	for range ask.Row[int](nil) {
+		t.Errorf("no row: something")
+	}
+}
+
 // number is how many letters a value has, where these are v alone.
 func number(value string) (int, api.Errno) {
 	if strings.Trim(value, "v") != "" {
